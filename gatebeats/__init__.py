@@ -1,0 +1,1 @@
+"""Gatebeats: beats counted in told gates."""

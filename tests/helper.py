@@ -1,0 +1,52 @@
+"""What several test files need."""
+
+from fractions import Fraction
+from math import floor
+
+# Any thing that is no whole number, some five deep.
+NO_WHOLES = [
+    True, False, None, "", "1", "time", [], (), [1], (1,), [True], (None,), ["1"], [[1], 2], ((1, 2), "3"),
+    [[[[[1]]]]], (((((1,),),),),), [(["1", (None, [True])],)],
+]
+
+NO_STARTS = NO_WHOLES + [-1, -9999, 10000, 10001, 99999]
+NO_LENGTHS = NO_WHOLES + [0, -1, -9999, 10000, 10001, 99999]
+
+# A tuple with one of these in it, alone or among whole numbers, is no row.
+NO_BEATS = NO_WHOLES + [-1, 10000, -10000, 99999]
+
+FULL_ROW = tuple(range(0, 400, 10))
+
+NO_ROWS = (
+    [True, False, None, 0, 1, -1, 10000, "", "1", "|..|", [], [1], [1, 2, 3], [[]], [()], [(1, 2)]]
+    + [(beat,) for beat in NO_BEATS]
+    + [(0, beat) for beat in NO_BEATS]
+    + [(beat, 5000) for beat in NO_BEATS]
+    + [(1, beat, 9999) for beat in NO_BEATS]
+    + [(1, 1), (0, 0), (2, 1), (9999, 0), (1, 3, 2), (1, 2, 2), (1, 2, 3, 1), (5, 6, 6, 7)]
+    + [tuple(range(41)), tuple(range(9959, 10000)) + (10000,), tuple(range(9959, 10000)), tuple(range(100))]
+    + [(((((1,),),),),), [[[[[1]]]]], ([], [[]], ((),)), [((), [None, (True, ["1"])])]]
+    + [list(FULL_ROW), FULL_ROW[::-1]]
+)
+
+ROWS = [
+    (), (0,), (9999,), (5,), (0, 1), (3, 4), (0, 9999), (9998, 9999), (4, 7), (0, 1, 2), (2, 3, 4, 5), (1, 4, 9, 16, 25),
+    (0, 10, 20, 30), (3, 5, 6, 12, 13, 40), (100, 101, 5000, 9000, 9999), FULL_ROW, tuple(range(40)),
+    tuple(range(9960, 10000)),
+]
+
+
+def steady_moments(phase, period, many):
+    return [phase + place * period for place in range(many)]
+
+
+def steady_rows():
+    """Tuples (period, row) of rows of steady beats, no two of them in one tick, none above 9999."""
+    phases = [Fraction(0), Fraction(1, 2), Fraction(98, 99), Fraction(7, 3), Fraction(40)]
+    periods = [Fraction(up, down) for down in (1, 2, 3, 7, 99) for up in (1, 2, 3, 5, 8, 20, 98, 99, 100, 150, 700)]
+    for phase in phases:
+        for period in sorted(set(periods)):
+            for many in (2, 3, 6, 13, 40):
+                row = tuple([floor(moment) for moment in steady_moments(phase, period, many)])
+                if len(set(row)) == many and row[-1] <= 9999:
+                    yield period, row

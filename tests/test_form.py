@@ -1,0 +1,94 @@
+"""The interface's names and arguments, and those rules of the code's form that a few lines can see."""
+
+import ast
+import importlib
+import inspect
+import unittest
+import warnings
+from pathlib import Path
+
+FOLDER = Path(__file__).resolve().parent.parent / "gatebeats"
+
+INTERFACE = {
+    "rows": {"is_row": 1, "counted": 3, "gaps": 1},
+    "rates": {"by_count": 3, "by_time": 3, "sharper": 3},
+}
+
+BUILTINS = set(
+    "len range enumerate zip min max sum abs sorted reversed int str bool bytes list tuple dict set isinstance ord"
+    " repr any all divmod ValueError KeyError IndexError LookupError ZeroDivisionError NotImplementedError".split()
+)
+
+BARRED_WORDS = set(
+    "type typing enum Enum IntEnum StrEnum Flag IntFlag Generic Protocol ABC ABCMeta namedtuple NamedTuple TypedDict"
+    " abstractmethod dataclass overload contextmanager global async".split()
+)
+
+
+def sources():
+    return {path.name: path.read_text(encoding="utf-8") for path in sorted(FOLDER.glob("*.py"))}
+
+
+class InterfaceTest(unittest.TestCase):
+    def test_functions_and_their_arguments(self):
+        for module, functions in INTERFACE.items():
+            held = importlib.import_module("gatebeats." + module)
+            for name, many in functions.items():
+                with self.subTest(module=module, name=name):
+                    function = getattr(held, name)
+                    self.assertEqual(function.__module__, "gatebeats." + module)
+                    self.assertEqual(len(inspect.signature(function).parameters), many)
+
+
+class FormTest(unittest.TestCase):
+    def test_the_folder_holds_sources_alone(self):
+        others = [path.name for path in FOLDER.iterdir() if path.suffix != ".py" and path.name != "__pycache__"]
+        self.assertEqual(others, [])
+        self.assertTrue((FOLDER / "__init__.py").is_file())
+
+    def test_characters_and_sizes(self):
+        for name, text in sources().items():
+            with self.subTest(name=name):
+                self.assertEqual([sign for sign in text if sign != "\n" and not " " <= sign <= "~"], [])
+                self.assertLessEqual(len(text.splitlines()), 400)
+                self.assertLessEqual(max(len(line) for line in text.splitlines()), 120)
+
+    def test_functions_are_small(self):
+        for name, text in sources().items():
+            for node in ast.walk(ast.parse(text)):
+                if isinstance(node, ast.FunctionDef):
+                    with self.subTest(name=name, function=node.name):
+                        self.assertLessEqual(node.end_lineno - node.lineno + 1, 40)
+
+    def test_barred_words(self):
+        for name, text in sources().items():
+            words = "".join(sign if sign.isalnum() or sign == "_" else " " for sign in text).split()
+            with self.subTest(name=name):
+                self.assertEqual(sorted(BARRED_WORDS & set(words)), [])
+
+    def test_imports_are_of_the_package(self):
+        for name, text in sources().items():
+            for node in ast.walk(ast.parse(text)):
+                with self.subTest(name=name):
+                    self.assertNotIsInstance(node, ast.Import)
+                    if isinstance(node, ast.ImportFrom):
+                        self.assertEqual(node.level, 0)
+                        self.assertTrue(node.module.startswith("gatebeats."))
+
+    def test_only_the_allowed_builtins(self):
+        barred = set(dir(__builtins__) if not isinstance(__builtins__, dict) else __builtins__) - BUILTINS
+        barred -= {"True", "False", "None"}
+        for name, text in sources().items():
+            names = {node.id for node in ast.walk(ast.parse(text)) if isinstance(node, ast.Name)}
+            with self.subTest(name=name):
+                self.assertEqual(sorted(names & barred), [])
+
+    def test_python_gives_no_warning(self):
+        for name, text in sources().items():
+            with self.subTest(name=name), warnings.catch_warnings():
+                warnings.simplefilter("error")
+                compile(text, name, "exec")
+
+
+if __name__ == "__main__":
+    unittest.main()
