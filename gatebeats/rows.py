@@ -23,18 +23,27 @@ def check_row(row):
         raise NoRow("a row is a tuple of 0 to 40 rising whole numbers from 0 to 9999")
 
 
+def check_length(length):
+    if not is_within(length, 1, LONGEST_GATE):
+        raise NoGate("a gate is as long as a whole number from 1 to 9999")
+
+
 def check_gate(start, length):
     if not is_within(start, 0, LAST_TICK):
         raise NoGate("a gate starts at a whole number from 0 to 9999")
-    if not is_within(length, 1, LONGEST_GATE):
-        raise NoGate("a gate is as long as a whole number from 1 to 9999")
+    check_length(length)
+
+
+def beats_from(row, start, end):
+    """A list of the beats of a row from tick start on and ahead of tick end."""
+    return [beat for beat in row if start <= beat < end]
 
 
 def beats_in(row, start, length):
     """A list of the beats of a row that are in a gate."""
     check_row(row)
     check_gate(start, length)
-    return [beat for beat in row if start <= beat < start + length]
+    return beats_from(row, start, start + length)
 
 
 def counted(row, start, length):

@@ -12,6 +12,9 @@ FOLDER = Path(__file__).resolve().parent.parent / "gatebeats"
 INTERFACE = {
     "rows": {"is_row": 1, "counted": 3, "gaps": 1},
     "rates": {"by_count": 3, "by_time": 3, "sharper": 3},
+    "gates": {"in_gates": 5, "lost": 5, "mean": 1, "spread": 1},
+    "pairs": {"to_next": 2, "longest_wait": 2, "between": 2},
+    "periods": {"steady": 3, "can_count": 2, "bounds": 1, "can_be_steady": 1, "simplest": 1, "phase_for": 1},
 }
 
 BUILTINS = set(
