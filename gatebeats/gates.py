@@ -25,13 +25,17 @@ def check_gates(start, length, dead, many):
         raise NoGate("the last tick of several gates is no more than 99999")
 
 
+def gate_starts(start, length, dead, many):
+    """A list of the first ticks of several gates."""
+    return [start + place * (length + dead) for place in range(many)]
+
+
 def in_gates(row, start, length, dead, many):
     """A list of how many beats are in each of several gates."""
     check_row(row)
     check_gates(start, length, dead, many)
-    starts = [start + place * (length + dead) for place in range(many)]
     # Later gates may start above 9999, where a gate by itself would be refused.
-    return [len(beats_from(row, at, at + length)) for at in starts]
+    return [len(beats_from(row, at, at + length)) for at in gate_starts(start, length, dead, many)]
 
 
 def lost(row, start, length, dead, many):

@@ -11,6 +11,18 @@ NO_WHOLES = [
 
 NO_STARTS = NO_WHOLES + [-1, -9999, 10000, 10001, 99999]
 NO_LENGTHS = NO_WHOLES + [0, -1, -9999, 10000, 10001, 99999]
+NO_DEADS = NO_WHOLES + [-1, -9999, 10000, 10001]
+NO_MANIES = NO_WHOLES + [0, -1, -20, 21, 22, 100]
+
+# Starts, lengths, dead ticks and how many gates, all of them such that may be.
+GATES = [
+    (0, 1, 0, 1), (0, 1, 0, 20), (0, 1, 1, 20), (0, 3, 2, 5), (1, 4, 1, 3), (3, 2, 7, 6), (5, 10, 0, 20),
+    (0, 10, 5, 20), (2, 9999, 0, 1), (0, 9999, 9999, 5), (9999, 1, 0, 1), (9999, 1, 4500, 20), (9950, 7, 3, 20),
+    (9999, 9999, 9999, 1), (0, 5000, 0, 20), (4, 2, 9999, 10), (100, 1, 4899, 3),
+]
+
+# The last tick of these is 99999.
+LONGEST_GATES = [(0, 5000, 0, 20), (9999, 1, 9999, 10), (9980, 4501, 0, 20), (1, 9000, 1111, 10), (1, 9999, 1, 10)]
 
 # A tuple with one of these in it, alone or among whole numbers, is no row.
 NO_BEATS = NO_WHOLES + [-1, 10000, -10000, 99999]

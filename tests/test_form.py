@@ -15,6 +15,13 @@ INTERFACE = {
     "gates": {"in_gates": 5, "lost": 5, "mean": 1, "spread": 1},
     "pairs": {"to_next": 2, "longest_wait": 2, "between": 2},
     "periods": {"steady": 3, "can_count": 2, "bounds": 1, "can_be_steady": 1, "simplest": 1, "phase_for": 1},
+    "texts": {"row_text": 1, "read_row": 1},
+    "working": {"shifted": 2, "merged": 2, "cut_out": 3, "divided": 2, "slowed": 2, "missing": 2},
+}
+
+# Of classes the arguments of methods are told without the object itself.
+CLASSES = {
+    "counters": {"Counter": {"__init__": 4, "go_on": 2, "over": 0, "now": 0}},
 }
 
 BUILTINS = set(
@@ -41,6 +48,17 @@ class InterfaceTest(unittest.TestCase):
                     function = getattr(held, name)
                     self.assertEqual(function.__module__, "gatebeats." + module)
                     self.assertEqual(len(inspect.signature(function).parameters), many)
+
+    def test_classes_and_their_methods(self):
+        for module, classes in CLASSES.items():
+            held = importlib.import_module("gatebeats." + module)
+            for name, methods in classes.items():
+                self.assertEqual(getattr(held, name).__module__, "gatebeats." + module)
+                for method, many in methods.items():
+                    with self.subTest(module=module, name=name, method=method):
+                        # A class's own dict has no method that it only inherits.
+                        function = vars(getattr(held, name))[method]
+                        self.assertEqual(len(inspect.signature(function).parameters), many + 1)
 
 
 class FormTest(unittest.TestCase):
@@ -77,6 +95,17 @@ class FormTest(unittest.TestCase):
                     if isinstance(node, ast.ImportFrom):
                         self.assertEqual(node.level, 0)
                         self.assertTrue(node.module.startswith("gatebeats."))
+
+    def test_no_name_is_a_method_and_an_attribute(self):
+        methods, attributes = set(), set()
+        for text in sources().values():
+            for node in ast.walk(ast.parse(text)):
+                if isinstance(node, ast.ClassDef):
+                    methods |= {each.name for each in node.body if isinstance(each, ast.FunctionDef)}
+                if isinstance(node, ast.Attribute) and isinstance(node.ctx, ast.Store):
+                    attributes.add(node.attr)
+        self.assertEqual(sorted(methods & attributes), [])
+        self.assertEqual([name for name in sorted(methods | attributes) if name[0] == "_" and name != "__init__"], [])
 
     def test_only_the_allowed_builtins(self):
         barred = set(dir(__builtins__) if not isinstance(__builtins__, dict) else __builtins__) - BUILTINS

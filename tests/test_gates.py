@@ -7,24 +7,14 @@ from math import gcd
 
 from gatebeats.errors import NoGate, NoRow
 from gatebeats.gates import in_gates, lost, mean, spread
-from tests.helper import FULL_ROW, NO_LENGTHS, NO_ROWS, NO_STARTS, NO_WHOLES, ROWS
+from tests.helper import (
+    FULL_ROW, GATES, LONGEST_GATES, NO_DEADS, NO_LENGTHS, NO_MANIES, NO_ROWS, NO_STARTS, NO_WHOLES, ROWS,
+)
 
 GATED = [in_gates, lost]
 OF_COUNTS = [mean, spread]
 
-NO_DEADS = NO_WHOLES + [-1, -9999, 10000, 10001]
-NO_MANIES = NO_WHOLES + [0, -1, -20, 21, 22, 100]
 NO_COUNT = NO_WHOLES + [-1, -99, 100, 101, 9999]
-
-# Starts, lengths, dead ticks and how many gates, all of them such that may be.
-GATES = [
-    (0, 1, 0, 1), (0, 1, 0, 20), (0, 1, 1, 20), (0, 3, 2, 5), (1, 4, 1, 3), (3, 2, 7, 6), (5, 10, 0, 20),
-    (0, 10, 5, 20), (2, 9999, 0, 1), (0, 9999, 9999, 5), (9999, 1, 0, 1), (9999, 1, 4500, 20), (9950, 7, 3, 20),
-    (9999, 9999, 9999, 1), (0, 5000, 0, 20), (4, 2, 9999, 10), (100, 1, 4899, 3),
-]
-
-# The last tick of these is 99999.
-LONGEST_GATES = [(0, 5000, 0, 20), (9999, 1, 9999, 10), (9980, 4501, 0, 20), (1, 9000, 1111, 10), (1, 9999, 1, 10)]
 
 
 def told_by_ticks(row, start, length, dead, many):

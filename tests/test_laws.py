@@ -1,15 +1,19 @@
-"""[0.2] (a), (b) and (c): what holds for all rows and gates."""
+"""[0.2] (a) to (e): what holds for all rows and gates."""
 
 import unittest
 from fractions import Fraction
+from itertools import cycle, product
 from math import floor, gcd
+from random import Random
 
-from gatebeats.errors import NoPeriod
+from gatebeats.counters import Counter
+from gatebeats.errors import NoPeriod, NoText
 from gatebeats.gates import in_gates, lost
 from gatebeats.periods import bounds, can_be_steady, can_count, phase_for, simplest, steady
 from gatebeats.rates import by_count, by_time
 from gatebeats.rows import counted
-from tests.helper import ROWS, steady_moments, steady_rows
+from gatebeats.texts import read_row, row_text
+from tests.helper import GATES, ROWS, steady_moments, steady_rows
 
 
 class GatesSideBySideTest(unittest.TestCase):
@@ -175,6 +179,93 @@ class SteadyRowsTest(unittest.TestCase):
                     if start + length <= row[-1] and start > row[0]:
                         with self.subTest(period=period, row=row, start=start, length=length):
                             self.assertIn(counted(row, start, length), can_count(period, length))
+
+
+def ends_of(start, length, dead, many):
+    return [start + place * (length + dead) + length for place in range(many)]
+
+
+class CountersTest(unittest.TestCase):
+    """(d) a counter tells what gates tell, in whatever steps."""
+
+    def check_steps(self, row, gates, steps, last):
+        """Goes on by steps, again from the first behind the last one, until so many ticks are over."""
+        ends = ends_of(*gates)
+        counts = in_gates(row, *gates)
+        counter = Counter(*gates)
+        told, at = [], 0
+        for ticks in cycle(steps):
+            if at >= last:
+                break
+            ended = counter.go_on(ticks, tuple([beat - at for beat in row if at <= beat < at + ticks]))
+            self.assertEqual(ended, [(number, counts[number]) for number, end in enumerate(ends) if at < end <= at + ticks])
+            told += ended
+            at += ticks
+            self.assertEqual(counter.over(), at)
+        self.assertEqual(told, [(number, counts[number]) for number, end in enumerate(ends) if end <= at])
+        return told
+
+    def test_to_the_end_of_all_gates(self):
+        tried = 0
+        for row in ROWS:
+            for gates in GATES:
+                for steps in ([9999], [5000, 0, 1, 4999], [0, 0, 7777], [1, 3000, 2], [1111, 0]):
+                    tried += 1
+                    with self.subTest(row=row, gates=gates, steps=steps):
+                        told = self.check_steps(row, gates, steps, ends_of(*gates)[-1])
+                        self.assertEqual(told, list(enumerate(in_gates(row, *gates))))
+        self.assertGreater(tried, 1000)
+
+    def test_small_steps(self):
+        for row in [(), (0,), (2, 3, 4, 5), (1, 4, 9, 16, 25), (3, 5, 6, 12, 13, 40), tuple(range(40))]:
+            for start, length, dead, many in product((0, 1, 5), (1, 2, 5), (0, 1, 3), (1, 2, 6)):
+                for steps in ([1], [0, 1], [2], [1, 0, 0, 2], [3, 1], [5], [7, 4], [100]):
+                    gates = (start, length, dead, many)
+                    with self.subTest(row=row, gates=gates, steps=steps):
+                        self.check_steps(row, gates, steps, ends_of(*gates)[-1] + 5)
+
+    def test_steps_of_all_sizes(self):
+        random = Random(6)
+        for time in range(300):
+            row = tuple(sorted(random.sample(range(300), random.randrange(41))))
+            gates = (random.randrange(60), random.randrange(1, 30), random.randrange(9), random.randrange(1, 21))
+            steps = [random.choice([0, 1, 2, random.randrange(20), random.randrange(200)]) for step in range(20)] + [1]
+            with self.subTest(row=row, gates=gates, steps=steps):
+                self.check_steps(row, gates, steps, ends_of(*gates)[-1])
+
+
+def row_ends_ahead_of_60(row):
+    return len(row) == 0 or row[-1] < 60
+
+
+class TextsTest(unittest.TestCase):
+    """(e) texts read back as what they write, and as nothing else."""
+
+    def test_texts_of_rows_read_back(self):
+        random = Random(7)
+        rows = [row for row in ROWS if row_ends_ahead_of_60(row)]
+        rows += [tuple(sorted(random.sample(range(60), random.randrange(41)))) for time in range(500)]
+        for row in rows:
+            with self.subTest(row=row):
+                self.assertEqual(read_row(row_text(row)), row)
+
+    def test_no_two_rows_have_one_text(self):
+        rows = [tuple([tick for tick in range(8) if bits >> tick & 1]) for bits in range(256)]
+        self.assertEqual(len({row_text(row) for row in rows}), len(rows))
+
+    def test_all_small_texts(self):
+        texts = {row_text(tuple([tick for tick in range(6) if bits >> tick & 1])) for bits in range(64)}
+        read = 0
+        for many in range(7):
+            for signs in product("|. \nx", repeat=many):
+                text = "".join(signs)
+                with self.subTest(text=text):
+                    if text in texts:
+                        read += 1
+                        self.assertEqual(row_text(read_row(text)), text)
+                    else:
+                        self.assertRaises(NoText, read_row, text)
+        self.assertEqual(read, 64)
 
 
 if __name__ == "__main__":
