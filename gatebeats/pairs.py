@@ -1,6 +1,6 @@
 """The time from beats of one row to those of another."""
 
-from gatebeats.rows import beats_from, check_row
+from gatebeats.rows import beats_from, check_rows
 
 
 def wait_for(beat, row):
@@ -13,8 +13,7 @@ def wait_for(beat, row):
 
 def to_next(one, other):
     """A list, for each beat of the one row, of how many ticks it is to the other's next beat, or None."""
-    check_row(one)
-    check_row(other)
+    check_rows(one, other)
     return [wait_for(beat, other) for beat in one]
 
 
@@ -26,6 +25,5 @@ def longest_wait(one, other):
 
 def between(one, other):
     """A list, for each beat of the one row but the last, of how many of the other come ahead of the next one."""
-    check_row(one)
-    check_row(other)
+    check_rows(one, other)
     return [len(beats_from(other, sooner, later)) for sooner, later in zip(one, one[1:])]

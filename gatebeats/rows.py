@@ -23,6 +23,11 @@ def check_row(row):
         raise NoRow("a row is a tuple of 0 to 40 rising whole numbers from 0 to 9999")
 
 
+def check_rows(one, other):
+    check_row(one)
+    check_row(other)
+
+
 def check_length(length):
     if not is_within(length, 1, LONGEST_GATE):
         raise NoGate("a gate is as long as a whole number from 1 to 9999")

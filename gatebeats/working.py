@@ -2,7 +2,7 @@
 
 from gatebeats.basics import is_within
 from gatebeats.errors import NoGate
-from gatebeats.rows import beats_in, check_length, check_row
+from gatebeats.rows import beats_in, check_length, check_row, check_rows
 
 MOST_SHIFT = 9999
 MOST_TIMES = 40
@@ -30,8 +30,7 @@ def shifted(row, by):
 
 def merged(one, other):
     """The row of the beats of both, those in one tick once."""
-    check_row(one)
-    check_row(other)
+    check_rows(one, other)
     return row_of(sorted(set(one + other)))
 
 

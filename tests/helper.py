@@ -1,6 +1,7 @@
 """What several test files need."""
 
 from fractions import Fraction
+from functools import lru_cache
 from math import floor
 
 # Any thing that is no whole number, some five deep.
@@ -62,3 +63,29 @@ def steady_rows():
                 row = tuple([floor(moment) for moment in steady_moments(phase, period, many)])
                 if len(set(row)) == many and row[-1] <= 9999:
                     yield period, row
+
+
+def span_of_phases(row, period):
+    """The least phase with which the period makes the row, and the one with which it does no more."""
+    low = max([beat - place * period for place, beat in enumerate(row)])
+    high = min([beat + 1 - place * period for place, beat in enumerate(row)])
+    return low, high
+
+
+def makes(row, period):
+    low, high = span_of_phases(row, period)
+    return period > 0 and low < high
+
+
+@lru_cache(maxsize=None)
+def steady_by_search(row):
+    """Whether a small row can be of steady beats, found by trying all periods that could be needed."""
+    if len(row) < 2:
+        return True
+    behind, ticks = len(row) - 1, row[-1] - row[0]
+    # Bounds have downs up to as many as are behind the first; the simplest between two such has twice that at most.
+    for down in range(1, 2 * behind + 1):
+        for up in range((ticks - 1) * down // behind, (ticks + 1) * down // behind + 2):
+            if makes(row, Fraction(up, down)):
+                return True
+    return False

@@ -17,11 +17,22 @@ INTERFACE = {
     "periods": {"steady": 3, "can_count": 2, "bounds": 1, "can_be_steady": 1, "simplest": 1, "phase_for": 1},
     "texts": {"row_text": 1, "read_row": 1},
     "working": {"shifted": 2, "merged": 2, "cut_out": 3, "divided": 2, "slowed": 2, "missing": 2},
+    "stretches": {"longest_steady": 1, "steady_parts": 1, "strays": 1},
+    "matching": {"couples": 3, "alone": 3, "best_shift": 3, "farthest": 2},
+    "tapes": {"tape_text": 1, "read_tape": 1},
 }
+
+BACK_AND_FORTH = {"back": 0, "forth": 0, "steps": 0, "twin": 0}
 
 # Of classes the arguments of methods are told without the object itself.
 CLASSES = {
     "counters": {"Counter": {"__init__": 4, "go_on": 2, "over": 0, "now": 0}},
+    "meters": {
+        "Meter": {"__init__": 3, "beats": 1, "rest": 1, "clock": 0, "held": 0, "word": 0, **BACK_AND_FORTH},
+    },
+    "tapes": {
+        "Tape": {"__init__": 0, "put": 1, "rub": 2, "insert": 2, "cut": 2, "row": 0, **BACK_AND_FORTH},
+    },
 }
 
 BUILTINS = set(

@@ -8,21 +8,9 @@ from math import floor, gcd
 
 from gatebeats.errors import NoPeriod, NoRow
 from gatebeats.periods import bounds, can_be_steady, phase_for, simplest, steady
-from tests.helper import FULL_ROW, NO_ROWS, ROWS, steady_moments
+from tests.helper import FULL_ROW, NO_ROWS, ROWS, makes, span_of_phases, steady_moments
 
 OF_ROWS = [bounds, can_be_steady, simplest, phase_for]
-
-
-def span_of_phases(row, period):
-    """The least phase with which the period makes the row, and the one with which it does no more."""
-    low = max([beat - place * period for place, beat in enumerate(row)])
-    high = min([beat + 1 - place * period for place, beat in enumerate(row)])
-    return low, high
-
-
-def makes(row, period):
-    low, high = span_of_phases(row, period)
-    return period > 0 and low < high
 
 
 def fractions_up_to(most_down, least, most):
